@@ -1,0 +1,1 @@
+"""Glitchnet: nets whose delays nobody knows."""

@@ -1,0 +1,126 @@
+"""What several tests need: things of all kinds, made nets, and a time limit."""
+
+import copy
+import random
+import signal
+
+XOR = "0110"
+XOR3 = "01101001"
+MAJORITY = "00010111"
+
+
+class TooSlow(AssertionError):
+    """What should end in a moment didn't."""
+
+
+def in_a_moment(asked, seconds=10):
+    """What asked() tells; an error instead of an endless wait."""
+    def stop(number, frame):
+        raise TooSlow("not told within %d seconds" % seconds)
+    before = signal.signal(signal.SIGALRM, stop)
+    signal.alarm(seconds)
+    try:
+        return asked()
+    finally:
+        signal.alarm(0)
+        signal.signal(signal.SIGALRM, before)
+
+
+def nested(make, deep):
+    """A thing so many deep."""
+    thing = make(0)
+    for level in range(deep - 1):
+        thing = make(thing)
+    return thing
+
+
+def odd_things():
+    """Things that are no net, row (but (0,)), change, delays, wave or word, made anew each time."""
+    return [
+        None, True, False, 0, 1, 2, -1, 7, 10 ** 39, 10 ** 40 - 1, 1 - 10 ** 40,
+        "", "0", "1", "up", "down!", "01", "0001", "inputs 1\n10 0", "01 to 10", "~" * 6000, "\n" * 6000,
+        (), (()), ((),), ((), ()), (((),),), (None,), (None, None), (None, None, None),
+        (0,), (2, 3), (True, False), (True, False, True), ("0", "1"), ("0", "1", "2"),
+        (0, 0, 0, 0, 0, 0, 0, 0), ("a", ("b", ("c", 1))),
+        [], [0], [0, 1], [0, 1, True], [[]], [[0], [1]], [(0,), (1,)], [1, [["10", [0]]]],
+        {}, {0: 1}, {"many": 1, "gates": ()}, {(0, 1): [0, {"a": None}]}, {None: {}},
+        nested(lambda thing: (thing,), 30), nested(lambda thing: [thing], 30),
+        nested(lambda thing: {"a": thing}, 30), nested(lambda thing: (thing, thing), 12),
+        nested(lambda thing: (1, (thing,)), 15),
+        tuple([2] * 19000), [0] * 19000, {number: number for number in range(9000)}, (1, tuple([0] * 19000)),
+    ]
+
+
+def same_parts(one, other):
+    """Whether two things are alike to the kinds of all their parts."""
+    if one.__class__ is not other.__class__:
+        return False
+    if isinstance(one, (tuple, list)):
+        return len(one) == len(other) and all(map(same_parts, one, other))
+    if isinstance(one, dict):
+        return same_parts(list(one.items()), list(other.items()))
+    return one == other
+
+
+def is_plain(thing):
+    """Whether it is made of tuples, texts, whole numbers and truths alone."""
+    if thing.__class__ is tuple:
+        return all(map(is_plain, thing))
+    return thing.__class__ in (int, str, bool)
+
+
+def is_numbers(thing):
+    """Whether it is made of tuples and whole numbers alone."""
+    if thing.__class__ is tuple:
+        return all(map(is_numbers, thing))
+    return thing.__class__ is int
+
+
+def check_kept(case, asked, *things):
+    """What asked(*things) tells; the things are afterwards as they were, and the answer comes again."""
+    before = copy.deepcopy(things)
+    told = asked(*things)
+    case.assertTrue(same_parts(before, things))
+    case.assertTrue(same_parts(told, asked(*things)))
+    return told
+
+
+def tables_of(ins):
+    """All tables of a gate with so many ins."""
+    return [format(number, "b").zfill(1 << ins) for number in range(1 << (1 << ins))]
+
+
+def made_net(chance, many, count, near=None):
+    """A net by chance; near: how far back a gate reads."""
+    gates = []
+    for wires in range(many, many + count):
+        size = chance.randint(1, 3)
+        least = 0 if near is None else max(0, wires - near)
+        ins = tuple(chance.randrange(least, wires) for place in range(size))
+        table = "".join(chance.choice("01") for sign in range(1 << size))
+        gates.append((table, ins))
+    return (many, tuple(gates))
+
+
+def made_nets(seed, many_nets, most_gates=8):
+    """Nets by chance, the same each time."""
+    chance = random.Random(seed)
+    nets = []
+    for number in range(many_nets):
+        nets.append(made_net(chance, chance.randint(1, 6), chance.randint(1, most_gates), chance.choice([None, 2, 4])))
+    return nets
+
+
+def chain_of_three(count, table=MAJORITY):
+    """A chain of gates each of whose three ins is the wire ahead."""
+    return (1, tuple((table, (wire, wire, wire)) for wire in range(count)))
+
+
+def great_net(count):
+    """A net with many gates of one, two and three ins."""
+    gates = []
+    for number in range(count):
+        wire = 2 + number
+        choice = [("10", (wire - 1,)), (XOR, (wire - 2, wire - 1)), (MAJORITY, (0, wire - 2, wire - 1))]
+        gates.append(choice[number % 3])
+    return (2, tuple(gates))

@@ -1,0 +1,55 @@
+"""The names, arguments and places of the interface, as far as it has landed."""
+
+import ast
+import importlib
+import inspect
+import pathlib
+import unittest
+
+PACKAGE = pathlib.Path(__file__).resolve().parent.parent / "glitchnet"
+
+FUNCTIONS = {
+    "nets": {
+        "is_net": ["thing"], "is_row": ["many", "thing"], "is_change": ["many", "thing"], "rows_of": ["many"],
+        "settled": ["net", "row"]},
+    "nettexts": {
+        "show_net": ["net"], "read_net": ["text"], "show_change": ["change"], "read_change": ["many", "text"]},
+    "delaying": {"is_delays": ["net", "thing"], "no_delays": ["net"], "readings_of": ["net"]},
+}
+
+CLASSES = {
+    "errors": {
+        "NetError": {}, "NoText": {}, "TooMany": {}, "NotFormula": {}, "NoTurn": {}, "NoForms": {}, "NoRow": {}},
+}
+
+
+def defined_in(module):
+    """The functions and classes that stand in a file, by their names."""
+    tree = ast.parse((PACKAGE / (module + ".py")).read_text())
+    return {node.name: node for node in tree.body if isinstance(node, (ast.FunctionDef, ast.ClassDef))}
+
+
+def arguments_of(function):
+    return list(inspect.signature(function).parameters)
+
+
+class InterfaceTest(unittest.TestCase):
+    def test_functions(self):
+        for module, functions in FUNCTIONS.items():
+            loaded = importlib.import_module("glitchnet." + module)
+            for name, arguments in functions.items():
+                self.assertIsInstance(defined_in(module)[name], ast.FunctionDef)
+                self.assertEqual(arguments_of(getattr(loaded, name)), arguments)
+
+    def test_classes(self):
+        for module, classes in CLASSES.items():
+            loaded = importlib.import_module("glitchnet." + module)
+            for name, methods in classes.items():
+                self.assertIsInstance(defined_in(module)[name], ast.ClassDef)
+                for method, arguments in methods.items():
+                    self.assertIn(method, vars(getattr(loaded, name)))
+                    self.assertEqual(arguments_of(vars(getattr(loaded, name))[method]), ["self"] + arguments)
+
+
+if __name__ == "__main__":
+    unittest.main()
