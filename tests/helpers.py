@@ -124,3 +124,80 @@ def great_net(count):
         choice = [("10", (wire - 1,)), (XOR, (wire - 2, wire - 1)), (MAJORITY, (0, wire - 2, wire - 1))]
         gates.append(choice[number % 3])
     return (2, tuple(gates))
+
+
+def made_change(chance, many):
+    """A change by chance: often of all inputs or of none."""
+    a = tuple(chance.randint(0, 1) for place in range(many))
+    kind = chance.randrange(4)
+    if kind == 0:
+        return (a, a)
+    if kind == 1:
+        return (a, tuple(1 - worth for worth in a))
+    return (a, tuple(chance.randint(0, 1) for place in range(many)))
+
+
+def made_delays(chance, net, most):
+    """Delays of a net by chance, up to the most."""
+    return tuple(tuple(chance.randint(0, most) for wire in ins) for table, ins in net[1])
+
+
+def made_runs(seed, many_runs, most_gates=8, most_delay=4):
+    """Nets, delays and changes by chance, the same each time."""
+    chance = random.Random(seed)
+    runs = []
+    for net in made_nets(seed, many_runs, most_gates):
+        runs.append((net, made_delays(chance, net, most_delay), made_change(chance, net[0])))
+    return runs
+
+
+def end_of(delays):
+    """A time at which all wires stand still."""
+    return sum(max(part) for part in delays)
+
+
+def walked(net, delays, change, end):
+    """The worths of all wires at the times from -1 to the end, by a walk through all of them."""
+    a, b = change
+    many, gates = net
+    worths = list(a)
+    for table, ins in gates:
+        worths.append(int(table[int("".join(str(worths[wire]) for wire in ins), 2)]))
+    still = tuple(worths)
+    rows = [still]
+    for time in range(end + 1):
+        row = list(b)
+        for (table, ins), lates in zip(gates, delays):
+            signs = ""
+            for wire, late in zip(ins, lates):
+                then = time - late
+                signs += str(still[wire] if then < 0 else row[wire] if then == time else rows[then + 1][wire])
+            row.append(int(table[int(signs, 2)]))
+        rows.append(tuple(row))
+    return rows
+
+
+def doubling_net(count):
+    """A net and delays by which each gate changes twice as often as the wire ahead."""
+    net = (1, tuple((XOR, (wire, wire)) for wire in range(count)))
+    return net, tuple((0, 1 << wire) for wire in range(count))
+
+
+def counted_net(number):
+    """A net and delays, one input going from 0 to 1, whose last gate changes so many times (1 to 255), none more."""
+    net, delays = doubling_net(7)
+    gates, lates = list(net[1]), list(delays)
+    wire = None
+    shift = 0
+    for power in range(8):
+        if number >> power & 1 and wire is None:
+            gates.append(("01", (power,)))
+            lates.append((0,))
+        elif number >> power & 1:
+            gates.append((XOR, (wire, power)))
+            lates.append((0, shift))
+        else:
+            continue
+        wire = len(gates)
+        shift += 1000
+    return (1, tuple(gates)), tuple(lates)

@@ -15,11 +15,20 @@ FUNCTIONS = {
     "nettexts": {
         "show_net": ["net"], "read_net": ["text"], "show_change": ["change"], "read_change": ["many", "text"]},
     "delaying": {"is_delays": ["net", "thing"], "no_delays": ["net"], "readings_of": ["net"]},
+    "running": {
+        "is_wave": ["thing"], "worth_at": ["wave", "time"], "waves_of": ["net", "delays", "change"]},
+    "wording": {
+        "is_word": ["thing"], "word_of": ["wave"], "lets": ["word", "wave"], "show_word": ["word"],
+        "read_word": ["text"]},
+    "pairing": {"pairs_of": ["word"], "gate_word": ["table", "words"]},
+    "networds": {"words_of": ["net", "change"], "is_formula": ["net"]},
 }
 
 CLASSES = {
     "errors": {
         "NetError": {}, "NoText": {}, "TooMany": {}, "NotFormula": {}, "NoTurn": {}, "NoForms": {}, "NoRow": {}},
+    "machines": {
+        "Machine": {"__init__": ["net", "delays", "change"], "time": [], "worths": [], "step": []}},
 }
 
 

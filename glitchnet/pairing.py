@@ -1,0 +1,30 @@
+"""Pairs of words, and the word of one gate."""
+
+from glitchnet.nets import choices_of, table_worth
+
+
+def pairs_of(word):
+    """The worths that waves which a word lets may have at two times, one no later than the other; rising."""
+    first, last, fro = word
+    if fro:
+        return (0, 0), (0, 1), (1, 0), (1, 1)
+    return tuple(sorted(set([(first, first), (first, last), (last, last)])))
+
+
+def gate_word(table, words):
+    """The word of a gate, by its table and the words of its ins."""
+    first = table_worth(table, [word[0] for word in words])
+    last = table_worth(table, [word[1] for word in words])
+    return first, last, goes_fro(table, words, first, last)
+
+
+def goes_fro(table, words, first, last):
+    """Whether a gate with this first and last worth may go to and fro between them."""
+    for pairs in choices_of([pairs_of(word) for word in words]):
+        early = table_worth(table, [p for p, q in pairs])
+        late = table_worth(table, [q for p, q in pairs])
+        if first == last and early != first:
+            return True
+        if first != last and early == last and late == first:
+            return True
+    return False
