@@ -201,3 +201,73 @@ def counted_net(number):
         wire = len(gates)
         shift += 1000
     return (1, tuple(gates)), tuple(lates)
+
+
+def made_formula(chance, many, count, inner=7):
+    """A formula by chance; inner: of ten readings so many of a gate, where one is left."""
+    gates, left = [], []
+    for wire in range(many, many + count):
+        ins = []
+        for place in range(chance.randint(1, 3)):
+            if left and chance.randrange(10) < inner:
+                ins.append(left.pop(chance.randrange(len(left))))
+            else:
+                ins.append(chance.randrange(many))
+        gates.append(("".join(chance.choice("01") for sign in range(1 << len(ins))), tuple(ins)))
+        left.append(wire)
+    return (many, tuple(gates))
+
+
+def made_formulas(seed, many_nets, most_gates=8):
+    """Formulas and changes by chance, the same each time."""
+    chance = random.Random(seed)
+    made = []
+    for number in range(many_nets):
+        net = made_formula(chance, chance.randint(1, 6), chance.randint(1, most_gates), chance.choice([4, 7, 9]))
+        made.append((net, made_change(chance, net[0])))
+    return made
+
+
+def chain_formula(count, table=XOR3):
+    """A formula: a chain of gates, each of which reads the gate ahead and two inputs."""
+    gates = [(table, (0, 1, 2))]
+    for number in range(1, count):
+        gates.append((table, (number + 2, number % 3, (number + 1) % 3)))
+    return (3, tuple(gates))
+
+
+def input_readings(net):
+    """The readings (gate, place) of inputs."""
+    many, gates = net
+    return [(gate, place) for gate, (table, ins) in enumerate(gates) for place, wire in enumerate(ins) if wire < many]
+
+
+def with_delays(net, readings, lates):
+    """Delays of a net, 0 but at the readings told."""
+    parts = [[0] * len(ins) for table, ins in net[1]]
+    for (gate, place), late in zip(readings, lates):
+        parts[gate][place] = late
+    return tuple(map(tuple, parts))
+
+
+def below(net, wire):
+    """The wires that a wire hangs on, itself too."""
+    many, gates = net
+    found, open_wires = set(), [wire]
+    while open_wires:
+        one = open_wires.pop()
+        if one not in found:
+            found.add(one)
+            open_wires += gates[one - many][1] if one >= many else ()
+    return found
+
+
+def not_formulas():
+    """Nets that are no formulas."""
+    return [
+        (1, (("10", (0,)), (XOR, (1, 1)))),
+        (1, (("00", (0,)), ("00", (1,)), ("11", (1,)))),
+        (2, (("0001", (0, 1)), ("10", (0,)), (XOR3, (2, 0, 2)))),
+        (6, (("10", (5,)), ("0001", (5, 6)), ("0001", (6, 7)))),
+        (1, tuple(("10", (wire,)) for wire in range(39)) + (("0001", (38, 39)),)),
+    ]

@@ -22,6 +22,13 @@ FUNCTIONS = {
         "read_word": ["text"]},
     "pairing": {"pairs_of": ["word"], "gate_word": ["table", "words"]},
     "networds": {"words_of": ["net", "change"], "is_formula": ["net"]},
+    "showing": {"shown": ["net", "change", "wire"]},
+    "counting": {"gate_greatest": ["table", "firsts", "numbers"], "greatest": ["net", "change"]},
+    "ordering": {"delays_for": ["net", "change", "wire", "many"]},
+    "ledgers": {"ledger_of": ["net", "change"], "ledger_holds": ["net", "change", "thing"]},
+    "products": {
+        "is_product": ["many", "thing"], "holds_row": ["product", "row"], "holds_all": ["product", "other"],
+        "meet": ["product", "other"], "cube_of": ["change"], "products_holding": ["product"]},
 }
 
 CLASSES = {

@@ -1,0 +1,52 @@
+"""Delays that show a wire's to and fro, of a formula."""
+
+from glitchnet.delaying import no_delays
+from glitchnet.errors import NotFormula
+from glitchnet.nets import choices_of, table_worth
+from glitchnet.networds import is_formula, words_of
+from glitchnet.pairing import pairs_of
+
+
+def shown(net, change, wire):
+    """Delays by which a wire goes to and fro, or None where its word has no fro; NotFormula of other nets."""
+    if not is_formula(net):
+        raise NotFormula("a gate is read at more than one place")
+    words = words_of(net, change)
+    first, last, fro = words[wire]
+    if not fro:
+        return None
+    # Below 0 the wire is at first: so it has gone to and fro by time 1.
+    return delays_by(net, words, wire, (1 - first, first))
+
+
+def delays_by(net, words, wire, pair):
+    """Delays by which a wire has this pair of its word at the times 0 and 1."""
+    many, gates = net
+    delays = [list(part) for part in no_delays(net)]
+    wanted = {wire: pair}
+    for gate in range(wire - many, -1, -1):
+        if many + gate not in wanted:
+            continue
+        table, ins = gates[gate]
+        pairs = pairs_for(table, [words[read] for read in ins], wanted[many + gate])
+        for place, read in enumerate(ins):
+            if read < many:
+                delays[gate][place] = input_delay(words[read], pairs[place])
+            else:
+                wanted[read] = pairs[place]
+    return tuple(tuple(part) for part in delays)
+
+
+def pairs_for(table, words, wanted):
+    """A pair of each in's word by which the gate has the wanted pair; there is one where its word has it."""
+    for pairs in choices_of([pairs_of(word) for word in words]):
+        early = table_worth(table, [p for p, q in pairs])
+        late = table_worth(table, [q for p, q in pairs])
+        if (early, late) == wanted:
+            return pairs
+    return None
+
+
+def input_delay(word, pair):
+    """The delay, 0, 1 or 2, by which an input is read with this pair of its word at the times 0 and 1."""
+    return sum(1 for worth in pair if worth != word[1])
