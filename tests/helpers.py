@@ -1,6 +1,7 @@
 """What several tests need: things of all kinds, made nets, and a time limit."""
 
 import copy
+import itertools
 import random
 import signal
 
@@ -271,3 +272,112 @@ def not_formulas():
         (6, (("10", (5,)), ("0001", (5, 6)), ("0001", (6, 7)))),
         (1, tuple(("10", (wire,)) for wire in range(39)) + (("0001", (38, 39)),)),
     ]
+
+
+def all_products(many):
+    """All products of so many inputs, sorted."""
+    return ["".join(signs) for signs in itertools.product("-01", repeat=many)]
+
+
+def all_rows(many):
+    """All rows of so many inputs, rising."""
+    return list(itertools.product((0, 1), repeat=many))
+
+
+def all_changes(many):
+    """All changes of so many inputs."""
+    return list(itertools.product(all_rows(many), repeat=2))
+
+
+def rows_in(product):
+    """The rows that a product holds."""
+    return frozenset(itertools.product(*[(0, 1) if sign == "-" else (int(sign),) for sign in product]))
+
+
+def rows_of_cover(cover):
+    """The rows of which a cover tells 1."""
+    return frozenset().union(*map(rows_in, cover[1]))
+
+
+def made_product(chance, many, literals=6):
+    """A product by chance; literals: of ten places so many have one."""
+    return "".join(chance.choice("01") if chance.randrange(10) < literals else "-" for place in range(many))
+
+
+def made_covers(seed, many_covers, most_inputs=6, most_products=16):
+    """Covers by chance, the same each time; now and then with the same product more than once."""
+    chance = random.Random(seed)
+    covers = []
+    for number in range(many_covers):
+        many = chance.randint(1, most_inputs)
+        literals = chance.choice((4, 6, 8, 10))
+        products = [made_product(chance, many, literals) for turn in range(chance.randint(0, most_products))]
+        if products and chance.randrange(4) == 0:
+            products[-1] = products[0]
+        covers.append((many, tuple(products)))
+    return covers
+
+
+def cover_formula(cover):
+    """A formula of a cover, in chains of two ins, and for each product the readings of its literals."""
+    many, products = cover
+    gates, readings, ends = [], [], []
+    for product in products:
+        wires, here = [], []
+        for place, sign in enumerate(product):
+            if sign != "-":
+                here.append((len(gates), 0))
+                wires.append(many + len(gates))
+                gates.append(("10" if sign == "0" else "01", (place,)))
+        ends.append(chained(many, gates, wires, "0001", "11"))
+        readings.append(here)
+    chained(many, gates, ends, "0111", "00")
+    return (many, tuple(gates)), readings
+
+
+def chained(many, gates, wires, table, empty):
+    """The wire of a chain of gates over some wires."""
+    if not wires:
+        gates.append((empty, (0,)))
+        return many + len(gates) - 1
+    last = wires[0]
+    for wire in wires[1:]:
+        gates.append((table, (last, wire)))
+        last = many + len(gates) - 1
+    return last
+
+
+def formula_delays(net, readings, delays):
+    """Delays of a cover's formula, by those of the cover."""
+    flat = [reading for part in readings for reading in part]
+    return with_delays(net, flat, [late for part in delays for late in part])
+
+
+def made_wishes(seed, many_wishes, most_inputs=4, most_changes=64):
+    """Wishes by chance, the same each time: changes between rows of 1, of one input, of any kind."""
+    chance = random.Random(seed)
+    wishes = []
+    for number in range(many_wishes):
+        many = chance.randint(1, most_inputs)
+        ones = chance.choice((3, 5, 7, 9, 10))
+        table = "".join("1" if chance.randrange(10) < ones else "0" for row in range(1 << many))
+        changes = made_changes(chance, many, table, chance.choice((0, 1, 2, 5, most_changes)))
+        wishes.append((many, table, changes))
+    return wishes
+
+
+def made_changes(chance, many, table, count):
+    """Changes by chance, of a kind by chance."""
+    rows = all_rows(many)
+    held = [row for row, sign in zip(rows, table) if sign == "1"] or rows
+    kind = chance.randrange(4)
+    changes = []
+    for number in range(count):
+        a, b = chance.choice(rows), chance.choice(rows)
+        if kind == 0 or kind == 1 and chance.randrange(3):
+            a, b = chance.choice(held), chance.choice(held)
+        if kind == 2 or kind == 1:
+            place = chance.randrange(many)
+            b = a[:place] + (1 - a[place],) + a[place + 1:]
+        changes.append((a, b))
+    return tuple(changes)

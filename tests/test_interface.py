@@ -29,6 +29,15 @@ FUNCTIONS = {
     "products": {
         "is_product": ["many", "thing"], "holds_row": ["product", "row"], "holds_all": ["product", "other"],
         "meet": ["product", "other"], "cube_of": ["change"], "products_holding": ["product"]},
+    "covers": {
+        "is_cover": ["thing"], "told_of": ["cover", "row"], "cover_word": ["cover", "change"],
+        "cover_greatest": ["cover", "change"], "judged": ["cover", "change"], "open_pairs": ["cover"]},
+    "covernets": {
+        "cover_wave": ["cover", "delays", "change"], "cover_shown": ["cover", "change"], "cover_net": ["cover"]},
+    "wishes": {
+        "is_wish": ["thing"], "is_free": ["wish", "cover"], "is_allowed": ["wish", "product"],
+        "greatest_allowed": ["wish"], "asked_of": ["wish"]},
+    "leasts": {"least_free": ["wish"]},
 }
 
 CLASSES = {

@@ -3,20 +3,7 @@ import random
 import unittest
 
 from glitchnet.products import cube_of, holds_all, holds_row, is_product, meet, products_holding
-from tests.helpers import check_kept, odd_things
-
-
-def all_products(many):
-    return ["".join(signs) for signs in itertools.product("-01", repeat=many)]
-
-
-def all_rows(many):
-    return list(itertools.product((0, 1), repeat=many))
-
-
-def rows_in(product):
-    """The rows that a product holds."""
-    return frozenset(itertools.product(*[(0, 1) if sign == "-" else (int(sign),) for sign in product]))
+from tests.helpers import all_products, all_rows, check_kept, odd_things, rows_in
 
 
 class IsProductTest(unittest.TestCase):
