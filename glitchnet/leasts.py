@@ -8,11 +8,16 @@ def least_free(wish):
     """A free cover of the fewest products with its paper, or that there is none, with the reasons."""
     asked = asked_of(wish)
     products = greatest_allowed(wish)
-    for one in asked:
-        if not any(holds_all(product, one) for product in products):
-            return "none", one, reasons_of(wish, one)
+    left = unheld(asked, products)
+    if left:
+        return "none", left[0], reasons_of(wish, left[0])
     found, paper = fewest(asked, products)
     return "least", (wish[0], found), paper
+
+
+def unheld(asked, products):
+    """Those of some asked products that none of the others holds."""
+    return tuple(one for one in asked if not any(holds_all(product, one) for product in products))
 
 
 def reasons_of(wish, asked):

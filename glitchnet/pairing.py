@@ -21,10 +21,22 @@ def gate_word(table, words):
 def goes_fro(table, words, first, last):
     """Whether a gate with this first and last worth may go to and fro between them."""
     for pairs in choices_of([pairs_of(word) for word in words]):
-        early = table_worth(table, [p for p, q in pairs])
-        late = table_worth(table, [q for p, q in pairs])
+        early, late = pair_by(table, pairs)
         if first == last and early != first:
             return True
         if first != last and early == last and late == first:
             return True
     return False
+
+
+def pair_by(table, pairs):
+    """A gate's worths at two times, by those of its ins."""
+    return table_worth(table, [p for p, q in pairs]), table_worth(table, [q for p, q in pairs])
+
+
+def pairs_for(table, options, wanted):
+    """A pair of each in's options by which the gate has the wanted pair, or None where there are none."""
+    for pairs in choices_of(options):
+        if pair_by(table, pairs) == wanted:
+            return pairs
+    return None

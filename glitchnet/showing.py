@@ -2,9 +2,8 @@
 
 from glitchnet.delaying import no_delays
 from glitchnet.errors import NotFormula
-from glitchnet.nets import choices_of, table_worth
 from glitchnet.networds import is_formula, words_of
-from glitchnet.pairing import pairs_of
+from glitchnet.pairing import pairs_for, pairs_of
 
 
 def shown(net, change, wire):
@@ -28,23 +27,13 @@ def delays_by(net, words, wire, pair):
         if many + gate not in wanted:
             continue
         table, ins = gates[gate]
-        pairs = pairs_for(table, [words[read] for read in ins], wanted[many + gate])
+        pairs = pairs_for(table, [pairs_of(words[read]) for read in ins], wanted[many + gate])
         for place, read in enumerate(ins):
             if read < many:
                 delays[gate][place] = input_delay(words[read], pairs[place])
             else:
                 wanted[read] = pairs[place]
     return tuple(tuple(part) for part in delays)
-
-
-def pairs_for(table, words, wanted):
-    """A pair of each in's word by which the gate has the wanted pair; there is one where its word has it."""
-    for pairs in choices_of([pairs_of(word) for word in words]):
-        early = table_worth(table, [p for p, q in pairs])
-        late = table_worth(table, [q for p, q in pairs])
-        if (early, late) == wanted:
-            return pairs
-    return None
 
 
 def input_delay(word, pair):

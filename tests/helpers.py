@@ -381,3 +381,145 @@ def made_changes(chance, many, table, count):
             b = a[:place] + (1 - a[place],) + a[place + 1:]
         changes.append((a, b))
     return tuple(changes)
+
+
+def edges_of(many):
+    """All changes of one input, both ways about, rising."""
+    return [(a, b) for a, b in all_changes(many) if sum(one != other for one, other in zip(a, b)) == 1]
+
+
+def others_of(thing):
+    """Things that are like a thing but at one place, of all kinds."""
+    made = [None, [], {}]
+    if isinstance(thing, bool):
+        made += [not thing, int(thing)]
+    elif isinstance(thing, int):
+        made += [thing + 1, thing - 1, str(thing), (thing,), thing + 10 ** 39] + [bool(thing)] * (thing in (0, 1))
+    elif isinstance(thing, str):
+        made += [thing + "0", thing[:-1], (thing,), thing + " ", thing.upper() + "!", 0]
+        made += [thing[:at] + sign + thing[at + 1:] for at in range(len(thing)) for sign in "01-" if sign != thing[at]]
+    elif isinstance(thing, tuple):
+        made += [list(thing), thing + (thing,), thing + (None,), (thing,), dict(enumerate(thing)), ()]
+        made += [thing[:at] + thing[at + 1:] for at in range(len(thing))]
+        made += [thing[:at] + thing[at:at + 1] + thing[at:] for at in range(len(thing))]
+        made += [thing[:at] + (thing[at + 1], thing[at]) + thing[at + 2:] for at in range(len(thing) - 1)]
+        for at, part in enumerate(thing):
+            made += [thing[:at] + (other,) + thing[at + 1:] for other in others_of(part)]
+    return made
+
+
+def made_leaf(chance, many):
+    """A form without parts by chance: mostly an input."""
+    kind = chance.randrange(14)
+    return ("one",) if kind == 0 else ("nought",) if kind == 1 else ("in", chance.randrange(many))
+
+
+def parted(chance, total, count):
+    """So many numbers from 1 on by chance, with this sum."""
+    cuts = sorted(chance.sample(range(1, total), count - 1))
+    return [late - early for early, late in zip([0] + cuts, cuts + [total])]
+
+
+def made_form(chance, many, parts):
+    """A form by chance with just so many parts in all."""
+    if parts == 1:
+        return made_leaf(chance, many)
+    if parts == 2 or chance.randrange(6) == 0:
+        return ("not", made_form(chance, many, parts - 1))
+    count = chance.randint(2, min(4, parts - 1))
+    inner = tuple(made_form(chance, many, size) for size in parted(chance, parts - 1, count))
+    return (chance.choice(("and", "or")), inner)
+
+
+def within_ten(chance, many, parts):
+    """A form by chance with just so many parts in all, at most ten within one another."""
+    form = made_form(chance, many, parts)
+    while depth_of(form) > 10:
+        form = made_form(chance, many, parts)
+    return form
+
+
+def made_forms(seed, many_forms, most_inputs=6, most_parts=40):
+    """Numbers of inputs and forms by chance, the same each time."""
+    chance = random.Random(seed)
+    made = []
+    for number in range(many_forms):
+        many = chance.randint(1, most_inputs)
+        made.append((many, within_ten(chance, many, chance.randint(1, most_parts))))
+    return made
+
+
+def inner_parts(form):
+    """The parts right within a form."""
+    return (form[1],) if form[0] == "not" else form[1] if form[0] in ("and", "or") else ()
+
+
+def depth_of(form):
+    """How many forms stand within one another."""
+    return 1 + max([depth_of(part) for part in inner_parts(form)], default=0)
+
+
+def size_of(form):
+    """How many parts a form has in all."""
+    return 1 + sum(map(size_of, inner_parts(form)))
+
+
+def inputs_in(form):
+    """The numbers of the inputs written in a form, in order."""
+    return [form[1]] if form[0] == "in" else [k for part in inner_parts(form) for k in inputs_in(part)]
+
+
+def places_in(form):
+    """All places in a form, each with the form there."""
+    found = [((), form)]
+    for number, part in enumerate(inner_parts(form)):
+        found += [((number,) + place, inner) for place, inner in places_in(part)]
+    return found
+
+
+def put_in(form, place, new):
+    """A form with another one at a place."""
+    if not place:
+        return new
+    inner = list(inner_parts(form))
+    inner[place[0]] = put_in(inner[place[0]], place[1:], new)
+    return ("not", inner[0]) if form[0] == "not" else (form[0], tuple(inner))
+
+
+def plain_worth(form, row):
+    """The worth of a form by a row."""
+    worths = [plain_worth(part, row) for part in inner_parts(form)]
+    if form[0] == "in":
+        return row[form[1]]
+    return {"one": lambda: 1, "nought": lambda: 0, "not": lambda: 1 - worths[0], "and": lambda: int(all(worths)),
+            "or": lambda: int(any(worths))}[form[0]]()
+
+
+def form_formula(many, form):
+    """A formula of a form, its last gate the form, and the readings of the inputs written in it, in order."""
+    gates, readings = [], []
+
+    def add(part):
+        wires = [add(inner) for inner in inner_parts(part)]
+        if part[0] == "in":
+            readings.append((len(gates), 0))
+            gates.append(("01", (part[1],)))
+        elif part[0] in ("one", "nought"):
+            gates.append(("11" if part[0] == "one" else "00", (0,)))
+        elif part[0] == "not":
+            gates.append(("10", (wires[0],)))
+        else:
+            chained(many, gates, wires, "0001" if part[0] == "and" else "0111", None)
+        return many + len(gates) - 1
+
+    add(form)
+    return (many, tuple(gates)), readings
+
+
+def tower_of(deep, many=6):
+    """A form with so many within one another."""
+    form = ("in", 0)
+    for level in range(1, deep):
+        other = ("in", level % many)
+        form = [("and", (form, other)), ("or", (other, form, other)), ("not", form)][level % 3]
+    return form

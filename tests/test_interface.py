@@ -38,6 +38,16 @@ FUNCTIONS = {
         "is_wish": ["thing"], "is_free": ["wish", "cover"], "is_allowed": ["wish", "product"],
         "greatest_allowed": ["wish"], "asked_of": ["wish"]},
     "leasts": {"least_free": ["wish"]},
+    "leastchecks": {"shown_by": ["wish", "given", "thing"], "reasons_holds": ["wish", "asked", "thing"]},
+    "mending": {"mended": ["cover", "changes"], "neighbours": ["many"]},
+    "forms": {
+        "is_form": ["many", "thing"], "worth_of": ["form", "row"], "parts_in": ["form"],
+        "form_at": ["form", "place"]},
+    "formnets": {
+        "form_word": ["form", "change"], "form_greatest": ["form", "change"],
+        "form_wave": ["form", "delays", "change"], "form_shown": ["form", "change"]},
+    "turns": {
+        "turns_to": ["rule", "old", "new"], "turned": ["form", "turn"], "turns_holds": ["one", "other", "thing"]},
 }
 
 CLASSES = {

@@ -23,8 +23,8 @@ class Look:
     def holds(self, product, other):
         return self.rows[product] >= self.rows[other]
 
-    def fewest(self):
-        """How many allowed products are needed, by a search through what is left."""
+    def fewest(self, given=None):
+        """How many allowed products are needed for the given ones, else all asked, by a search through what is left."""
         @functools.lru_cache(None)
         def needed(left):
             if not left:
@@ -32,7 +32,7 @@ class Look:
             first = min(left)
             return 1 + min(needed(frozenset(one for one in left if not self.holds(product, one)))
                            for product in self.great if self.holds(product, first))
-        return needed(frozenset(self.asked))
+        return needed(frozenset(self.asked if given is None else given))
 
     def shown_by(self, case, paper, given):
         """The number that a paper shows for the given ones, looked at knot by knot."""
