@@ -34,9 +34,33 @@ def pair_by(table, pairs):
     return table_worth(table, [p for p, q in pairs]), table_worth(table, [q for p, q in pairs])
 
 
+def gate_pairs(table, options):
+    """All pairs of a gate, by the pairs that each of its ins may have; rising."""
+    return tuple(sorted(set([pair_by(table, pairs) for pairs in choices_of(options)])))
+
+
 def pairs_for(table, options, wanted):
-    """A pair of each in's options by which the gate has the wanted pair, or None where there are none."""
+    """A pair of each in's options by which the gate has the wanted pair; there is one where any has it."""
     for pairs in choices_of(options):
         if pair_by(table, pairs) == wanted:
             return pairs
     return None
+
+
+def pairs_read(net, options, wire, wanted):
+    """For each reading of an input below a wire of a formula a pair, so that the wire has the wanted one; by the pairs
+    that each in of each gate may have."""
+    many, gates = net
+    wanted_of = {wire: wanted}
+    found = {}
+    for gate in range(wire - many, -1, -1):
+        if many + gate not in wanted_of:
+            continue
+        table, ins = gates[gate]
+        pairs = pairs_for(table, options[gate], wanted_of[many + gate])
+        for place, read in enumerate(ins):
+            if read < many:
+                found[(gate, place)] = pairs[place]
+            else:
+                wanted_of[read] = pairs[place]
+    return found

@@ -3,7 +3,7 @@
 from glitchnet.delaying import no_delays
 from glitchnet.errors import NotFormula
 from glitchnet.networds import is_formula, words_of
-from glitchnet.pairing import pairs_for, pairs_of
+from glitchnet.pairing import pairs_of, pairs_read
 
 
 def shown(net, change, wire):
@@ -20,19 +20,11 @@ def shown(net, change, wire):
 
 def delays_by(net, words, wire, pair):
     """Delays by which a wire has this pair of its word at the times 0 and 1."""
-    many, gates = net
+    gates = net[1]
+    options = [[pairs_of(words[read]) for read in ins] for table, ins in gates]
     delays = [list(part) for part in no_delays(net)]
-    wanted = {wire: pair}
-    for gate in range(wire - many, -1, -1):
-        if many + gate not in wanted:
-            continue
-        table, ins = gates[gate]
-        pairs = pairs_for(table, [pairs_of(words[read]) for read in ins], wanted[many + gate])
-        for place, read in enumerate(ins):
-            if read < many:
-                delays[gate][place] = input_delay(words[read], pairs[place])
-            else:
-                wanted[read] = pairs[place]
+    for (gate, place), read_pair in pairs_read(net, options, wire, pair).items():
+        delays[gate][place] = input_delay(words[gates[gate][1][place]], read_pair)
     return tuple(tuple(part) for part in delays)
 
 

@@ -523,3 +523,46 @@ def tower_of(deep, many=6):
         other = ("in", level % many)
         form = [("and", (form, other)), ("or", (other, form, other)), ("not", form)][level % 3]
     return form
+
+
+def worse_form(chance, many, form):
+    """A form with the same worths that may show more: somewhere in it a part written again."""
+    place, part = chance.choice(places_in(form))
+    more = made_form(chance, many, chance.randint(1, 3))
+    new = chance.choice([
+        ("or", (part, ("and", (part, more)))), ("and", (part, ("or", (part, more)))), ("and", (part, part)),
+        ("or", (("and", (part, more)), ("and", (part, ("not", more))))), ("or", (("and", (more, ("not", more))), part)),
+        ("and", (("or", (more, part)), ("or", (("not", more), part)))), ("not", ("not", part))])
+    return put_in(form, place, new)
+
+
+def alike_forms(seed, many_pairs, most_inputs=4, most_parts=40):
+    """Numbers of inputs and two forms with the same worths each, the same each time."""
+    chance = random.Random(seed)
+    made = []
+    while len(made) < many_pairs:
+        many = chance.randint(1, most_inputs)
+        form = within_ten(chance, many, chance.randint(1, 12))
+        pair = [form, form]
+        for turn in range(chance.randint(1, 4)):
+            side = chance.randrange(2)
+            other = worse_form(chance, many, pair[side])
+            if size_of(other) <= most_parts and depth_of(other) <= 10:
+                pair[side] = other
+        made.append((many, pair[0], pair[1]))
+    return made
+
+
+def made_tree(chance, many, gates, readings):
+    """A formula by chance of so many gates and readings of inputs, all below its last gate."""
+    pool = [chance.randrange(many) for reading in range(readings)]
+    made = []
+    for left in range(gates - 1, -1, -1):
+        sizes = [size for size in (1, 2, 3) if size <= len(pool) and len(pool) - size <= 2 * left]
+        size = chance.choice([size for size in sizes if left or size == len(pool)])
+        chance.shuffle(pool)
+        ins, pool = pool[:size], pool[size:]
+        table = "01" if size == 1 else "".join(chance.choice("01") for sign in range(1 << size))
+        made.append((table, tuple(ins)))
+        pool.append(many + len(made) - 1)
+    return (many, tuple(made))

@@ -1,4 +1,4 @@
-"""The names, arguments and places of the interface, as far as it has landed."""
+"""The names, arguments and places of the interface."""
 
 import ast
 import importlib
@@ -48,6 +48,10 @@ FUNCTIONS = {
         "form_wave": ["form", "delays", "change"], "form_shown": ["form", "change"]},
     "turns": {
         "turns_to": ["rule", "old", "new"], "turned": ["form", "turn"], "turns_holds": ["one", "other", "thing"]},
+    "sides": {"side_by_side": ["many", "one", "other"]},
+    "formtexts": {"show_form": ["form"], "read_form": ["many", "text"]},
+    "bounding": {"is_bounds": ["net", "thing"], "within": ["net", "change", "bounds", "wire"]},
+    "findings": {"finding_holds": ["thing"]},
 }
 
 CLASSES = {
@@ -55,6 +59,7 @@ CLASSES = {
         "NetError": {}, "NoText": {}, "TooMany": {}, "NotFormula": {}, "NoTurn": {}, "NoForms": {}, "NoRow": {}},
     "machines": {
         "Machine": {"__init__": ["net", "delays", "change"], "time": [], "worths": [], "step": []}},
+    "desk": {"Desk": {"__init__": [], "say": ["text"]}},
 }
 
 

@@ -251,6 +251,32 @@ def is_turn(form, thing):
     return any(same_parts(thing, turn) for turn in walked_turns(form))
 
 
+def led(one, other, paper):
+    """Whether a paper leads from one form to the other one, turn by turn."""
+    if paper.__class__ is not tuple:
+        return False
+    for turn in paper:
+        if not is_turn(one, turn):
+            return False
+        one = put_in(one, turn[0], turn[2])
+        if size_of(one) > 40:
+            return False
+    return one == other
+
+
+def drawn_turns(chance, form, count):
+    """A paper by chance of so many turns, and the form to which it leads."""
+    paper = []
+    while len(paper) < count:
+        place, part = chance.choice(places_in(form))
+        rule, new = chance.choice(sorted(walked(part), key=repr))
+        whole = put_in(form, place, new)
+        if size_of(whole) <= 40:
+            paper.append((place, rule, new))
+            form = whole
+    return tuple(paper), form
+
+
 class TurnedTest(unittest.TestCase):
     def refused(self, form, turn):
         with self.assertRaises(NetError) as held:
@@ -394,18 +420,6 @@ class TurnsHoldsTest(unittest.TestCase):
         self.assertIsInstance(told, bool)
         return told
 
-    def drawn_paper(self, chance, form, count):
-        """A paper by chance of so many turns, and the form to which it leads."""
-        paper = []
-        while len(paper) < count:
-            place, part = chance.choice(places_in(form))
-            rule, new = chance.choice(sorted(walked(part), key=repr))
-            whole = put_in(form, place, new)
-            if size_of(whole) <= 40:
-                paper.append((place, rule, new))
-                form = whole
-        return tuple(paper), form
-
     def test_none(self):
         for many, form in made_forms(281, 40):
             self.assertIs(self.told(form, form, ()), True)
@@ -421,29 +435,17 @@ class TurnsHoldsTest(unittest.TestCase):
         chance = random.Random(283)
         for many, form in made_forms(284, 60, 4, 20):
             for count in (1, 2, 5, 12):
-                paper, other = self.drawn_paper(chance, form, count)
+                paper, other = drawn_turns(chance, form, count)
                 self.assertIs(self.told(form, other, paper), True)
                 self.assertIs(self.told(form, ("not", other), paper), False)
-                self.assertIs(self.told(form, other, paper[:-1]), self.led(form, other, paper[:-1]))
-                self.assertIs(self.told(form, other, paper[::-1]), self.led(form, other, paper[::-1]))
-
-    def led(self, one, other, paper):
-        """Whether a paper leads from one form to the other one, turn by turn."""
-        if paper.__class__ is not tuple:
-            return False
-        for turn in paper:
-            if not is_turn(one, turn):
-                return False
-            one = put_in(one, turn[0], turn[2])
-            if size_of(one) > 40:
-                return False
-        return one == other
+                self.assertIs(self.told(form, other, paper[:-1]), led(form, other, paper[:-1]))
+                self.assertIs(self.told(form, other, paper[::-1]), led(form, other, paper[::-1]))
 
     def test_a_hundred_turns_and_more(self):
         chance = random.Random(285)
         for count in (100, 150, 400):
             form = within_ten(chance, 4, 20)
-            paper, other = self.drawn_paper(chance, form, count)
+            paper, other = drawn_turns(chance, form, count)
             self.assertIs(in_a_moment(lambda: self.told(form, other, paper)), True)
             self.assertIs(self.told(form, form, paper), form == other)
         form = ("and", (("in", 0), ("in", 1)))
@@ -475,10 +477,10 @@ class TurnsHoldsTest(unittest.TestCase):
         chance = random.Random(287)
         found = {True: 0, False: 0}
         for many, form in made_forms(288, 40, 3, 8):
-            paper, other = self.drawn_paper(chance, form, chance.randint(1, 3))
+            paper, other = drawn_turns(chance, form, chance.randint(1, 3))
             others = others_of(paper)
             for thing in chance.sample(others, min(len(others), 40)):
-                right = self.led(form, other, thing)
+                right = led(form, other, thing)
                 self.assertIs(self.told(form, other, thing), right)
                 found[right] += 1
         self.assertGreater(found[False], 500)
@@ -494,7 +496,7 @@ class TurnsHoldsTest(unittest.TestCase):
     def test_nothing_more_is_shown_behind_a_paper(self):
         chance = random.Random(289)
         for many, form in made_forms(290, 25, 2, 16):
-            paper, other = self.drawn_paper(chance, form, 25)
+            paper, other = drawn_turns(chance, form, 25)
             for change in all_changes(many):
                 first, last, fro = form_word(form, change)
                 self.assertIn(form_word(other, change), [(first, last, fro), (first, last, False)])

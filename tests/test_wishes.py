@@ -5,7 +5,7 @@ import unittest
 from glitchnet.networds import words_of
 from glitchnet.wishes import asked_of, greatest_allowed, is_allowed, is_free, is_wish
 from tests.helpers import (
-    all_changes, all_products, all_rows, check_kept, cover_formula, in_a_moment, made_covers, made_wishes, odd_things,
+    all_changes, all_products, all_rows, check_kept, cover_formula, in_a_moment, made_wishes, odd_things,
     rows_in)
 
 
