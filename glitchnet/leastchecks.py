@@ -1,9 +1,8 @@
 """Small checkers: of papers that no fewer products do, and of reasons why there is no free cover."""
 
 from glitchnet.kinds import is_whole
-from glitchnet.leasts import unheld
 from glitchnet.nets import is_row, table_worth
-from glitchnet.products import holds_all, holds_row, products_holding
+from glitchnet.products import holds_all, holds_row, products_holding, unheld
 from glitchnet.wishes import greatest_allowed, is_allowed_at
 
 

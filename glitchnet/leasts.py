@@ -1,6 +1,6 @@
 """The least free covers, with papers that no fewer products do, or the reasons why there is none."""
 
-from glitchnet.products import holds_all, products_holding
+from glitchnet.products import holds_all, products_holding, unheld
 from glitchnet.wishes import asked_of, greatest_allowed, why_not
 
 
@@ -13,11 +13,6 @@ def least_free(wish):
         return "none", left[0], reasons_of(wish, left[0])
     found, paper = fewest(asked, products)
     return "least", (wish[0], found), paper
-
-
-def unheld(asked, products):
-    """Those of some asked products that none of the others holds."""
-    return tuple(one for one in asked if not any(holds_all(product, one) for product in products))
 
 
 def reasons_of(wish, asked):

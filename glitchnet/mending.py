@@ -1,8 +1,9 @@
 """Covers mended: the fewest products that keep them from going to and fro."""
 
 from glitchnet.covers import told_of
-from glitchnet.leasts import fewest, reasons_of, unheld
+from glitchnet.leasts import fewest, reasons_of
 from glitchnet.nets import rows_of
+from glitchnet.products import unheld
 from glitchnet.wishes import asked_of, greatest_allowed, is_allowed
 
 

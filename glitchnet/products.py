@@ -34,3 +34,8 @@ def products_holding(product):
     """All products that hold a product, sorted."""
     choices = choices_of([("-",) if sign == "-" else ("-", sign) for sign in product])
     return tuple("".join(signs) for signs in choices)
+
+
+def unheld(some, products):
+    """Those of some products that none of the others holds, in their order."""
+    return tuple(one for one in some if not any(holds_all(product, one) for product in products))

@@ -434,7 +434,8 @@ class RefusedTest(unittest.TestCase):
             self.refused(Desk(), "form %s : 0 to 1" % form)
         for change in ("0000000 to 1111111", "0 to 11", "00 to 1", " to ", "0 to 1, 0 to 1", "01", "2 to 2"):
             self.refused(self.desk, "form in 0 : " + change)
-        for row in ("form in 0", "form in 0 :", "form : 0 to 1", "form 0 to 1 : in 0", "form in 0 : 0 to 1 : 0 to 1"):
+        for row in ("form one :  to ", "form in 0", "form in 0 :", "form : 0 to 1", "form 0 to 1 : in 0",
+                    "form in 0 : 0 to 1 : 0 to 1"):
             self.refused(self.desk, row)
 
     def test_forms_beyond_the_bounds(self):
